@@ -1,0 +1,1 @@
+"""Strikecore: finite orders as spaces, and what is left of them."""

@@ -1,0 +1,211 @@
+"""What the tests compare with: the words of the document, followed literally and slowly."""
+
+import itertools
+import random
+
+EMPTY = (0, ())
+POINT = (1, ())
+CROWN = (4, ((0, 2), (0, 3), (1, 2), (1, 3)))
+VEE = (3, ((0, 1), (0, 2)))
+WEDGE = (3, ((0, 2), (1, 2)))
+HUGE = 10 ** 60 - 1
+
+
+def chain(n):
+    return (n, tuple((x, y) for x in range(n) for y in range(x + 1, n)))
+
+
+def antichain(n):
+    return (n, ())
+
+
+def ring(k):
+    """The order crown(k) of the document."""
+    return (2 * k, tuple(sorted({(i % k, k + j) for j in range(k) for i in (j, j + 1)})))
+
+
+def closure(pairs):
+    known = set(pairs)
+    while True:
+        more = {(x, z) for x, y in known for w, z in known if y == w} - known
+        if not more:
+            return known
+        known |= more
+
+
+def is_order(n, pairs):
+    known = set(pairs)
+    if any(x == y or (y, x) in known for x, y in known):
+        return False
+    return closure(known) == known
+
+
+def all_orders(n):
+    """All orders of n points; n is at most 4."""
+    places = [(x, y) for x in range(n) for y in range(n) if x != y]
+    found = []
+    for bits in itertools.product((False, True), repeat=len(places)):
+        pairs = tuple(pair for pair, bit in zip(places, bits) if bit)
+        if is_order(n, pairs):
+            found.append((n, pairs))
+    return found
+
+
+SMALL_ORDERS = [order for n in range(4) for order in all_orders(n)]
+
+
+def random_order(n, density, source):
+    names = list(range(n))
+    source.shuffle(names)
+    links = {(names[i], names[j]) for i in range(n) for j in range(i + 1, n) if source.random() < density}
+    return (n, tuple(sorted(closure(links))))
+
+
+def random_orders(many, largest, seed, smallest=0):
+    source = random.Random(seed)
+    orders = []
+    for _ in range(many):
+        orders.append(random_order(source.randint(smallest, largest), source.choice((0.1, 0.25, 0.4, 0.6)), source))
+    return orders
+
+
+def subsets(n):
+    """All ascending tuples of points."""
+    return [points for size in range(n + 1) for points in itertools.combinations(range(n), size)]
+
+
+def is_at_most(order, x, y):
+    return x == y or (x, y) in order[1]
+
+
+def covers(order):
+    n, pairs = order
+    return tuple(
+        (x, y) for x, y in pairs if not any((x, z) in pairs and (z, y) in pairs for z in range(n))
+    )
+
+
+def induced(order, points):
+    n = len(points)
+    return (n, tuple((i, j) for i in range(n) for j in range(n) if (points[i], points[j]) in order[1]))
+
+
+def are_alike(first, second):
+    """Tries all renamings; for small orders."""
+    if first[0] != second[0] or len(first[1]) != len(second[1]):
+        return False
+    target = set(second[1])
+    return any(
+        all((names[x], names[y]) in target for x, y in first[1])
+        for names in itertools.permutations(range(first[0]))
+    )
+
+
+def is_rising(first, second, row):
+    return all(is_at_most(second, row[x], row[y]) for x, y in first[1])
+
+
+def maps_by_trying(first, second):
+    rows = itertools.product(range(second[0]), repeat=first[0])
+    return tuple(row for row in rows if is_rising(first, second, row))
+
+
+def step_is_allowed(first, second, row, step):
+    """Whether a rising map may take this step."""
+    x, value = step
+    if x not in range(first[0]) or value not in range(second[0]):
+        return False
+    near = covers(second)
+    if (row[x], value) not in near and (value, row[x]) not in near:
+        return False
+    return is_rising(first, second, row[:x] + (value,) + row[x + 1:])
+
+
+def partner(order, points, strike):
+    """The partner, or None if the strike cannot be made."""
+    x, way = strike
+    if x not in points:
+        return None
+    if way == "down":
+        near = [y for y in points if (y, x) in order[1]]
+        ends = [y for y in near if all(is_at_most(order, z, y) for z in near)]
+    else:
+        near = [y for y in points if (x, y) in order[1]]
+        ends = [y for y in near if all(is_at_most(order, y, z) for z in near)]
+    return ends[0] if ends else None
+
+
+def strikes_of(order, points):
+    every = sorted((x, way) for x in points for way in ("up", "down"))
+    return tuple(strike for strike in every if partner(order, points, strike) is not None)
+
+
+def core_strikes(order):
+    points = tuple(range(order[0]))
+    row = ()
+    while strikes_of(order, points):
+        strike = strikes_of(order, points)[0]
+        row += (strike,)
+        points = tuple(x for x in points if x != strike[0])
+    return row
+
+
+def random_row(order, source, length=None):
+    """A striking row of random strikes; finished if no length is told."""
+    points = tuple(range(order[0]))
+    row = ()
+    while strikes_of(order, points) and len(row) != length:
+        strike = source.choice(strikes_of(order, points))
+        row += (strike,)
+        points = tuple(x for x in points if x != strike[0])
+    return row
+
+
+def left_by(order, row):
+    struck = [x for x, _ in row]
+    return tuple(x for x in range(order[0]) if x not in struck)
+
+
+def is_plain(value):
+    """Whether a value is built of plain tuples, strings, integers and None only."""
+    if type(value) is tuple:
+        return all(is_plain(item) for item in value)
+    return value is None or type(value) is int or type(value) is str
+
+
+STRANGE_VALUES = (
+    None,
+    (),
+    "",
+    "order",
+    "(0, ())",
+    0,
+    1,
+    -1,
+    64,
+    65,
+    HUGE,
+    -HUGE,
+    (None,),
+    ((),),
+    ((), ()),
+    ("", ""),
+    (0,),
+    (0, (), ()),
+    (0, None),
+    (0, 0),
+    (0, "ab"),
+    ("0", ()),
+    (None, ()),
+    ((), 0),
+    ((0, ()),),
+    (((((((((((1,),),),),),),),),),),),
+    ((0, 1), (1, 2)),
+    (0, 1, 2, None),
+    (0, "1"),
+    (0, (1,)),
+    (HUGE, -HUGE),
+    tuple(range(1000)),
+    (None,) * 1000,
+    ((0, 1),) * 1000,
+)

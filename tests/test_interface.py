@@ -1,0 +1,52 @@
+"""[1], [2]: the names of the interface, where they are defined, and their parameters."""
+
+import importlib
+import inspect
+import unittest
+
+LANDED = {
+    "orders": {
+        "check_order": "value",
+        "order_of": "n links",
+        "covers": "order",
+        "below": "order x",
+        "above": "order x",
+        "is_below": "order x y",
+        "minimal": "order",
+        "maximal": "order",
+        "least": "order",
+        "greatest": "order",
+        "pieces": "order",
+        "is_connected": "order",
+    },
+    "building": {
+        "induced": "order points",
+        "opposite": "order",
+        "beside": "first second",
+        "on_top": "first second",
+        "product": "first second",
+    },
+}
+
+
+class TestInterface(unittest.TestCase):
+    def test_functions_are_defined_in_their_files(self):
+        for file_name, functions in LANDED.items():
+            module = importlib.import_module("strikecore." + file_name)
+            for name in functions:
+                with self.subTest(file_name, name=name):
+                    function = getattr(module, name)
+                    self.assertTrue(inspect.isfunction(function))
+                    self.assertEqual(function.__module__, "strikecore." + file_name)
+                    self.assertEqual(function.__name__, name)
+
+    def test_parameters_have_the_names_that_are_told(self):
+        for file_name, functions in LANDED.items():
+            module = importlib.import_module("strikecore." + file_name)
+            for name, parameters in functions.items():
+                with self.subTest(file_name, name=name):
+                    told = inspect.signature(getattr(module, name)).parameters.values()
+                    self.assertEqual([parameter.name for parameter in told], parameters.split())
+                    for parameter in told:
+                        self.assertEqual(parameter.kind, parameter.POSITIONAL_OR_KEYWORD)
+                        self.assertIs(parameter.default, parameter.empty)
