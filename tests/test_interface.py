@@ -26,6 +26,37 @@ LANDED = {
         "on_top": "first second",
         "product": "first second",
     },
+    "maps": {
+        "check_map": "first second row",
+        "identity_map": "order",
+        "compose": "row after",
+        "at_most": "second low high",
+        "are_neighbours": "second row other",
+        "count_maps": "first second",
+        "all_maps": "first second",
+    },
+    "steps": {
+        "apply_steps": "first second row steps",
+        "steps_up": "first second low high",
+        "steps_down": "first second high low",
+        "check_fence": "first second rows",
+        "fence_steps": "first second rows",
+    },
+    "strikes": {
+        "strikes_of": "order points",
+        "partner": "order points strike",
+        "points_left": "order strikes",
+        "is_finished": "order strikes",
+        "is_core": "order",
+    },
+    "cores": {
+        "core_strikes": "order",
+        "core_points": "order",
+        "core": "order",
+        "strike_map": "order strikes",
+        "strike_fence": "order strikes",
+        "is_contractible": "order",
+    },
 }
 
 

@@ -1,0 +1,125 @@
+"""[2], [3]: rules that hold for every function."""
+
+import unittest
+
+from strikecore import building, cores, maps, orders, steps, strikes
+from strikecore.errors import StrikeError, TooLarge
+from tests.reference import CROWN, EMPTY, HUGE, VEE, antichain, chain, is_plain
+
+STEPS = ((1, 1), (2, 2))
+ROWS = ((0, 0, 0), (0, 1, 2), (0, 1, 0))
+STRIKES = ((1, "down"), (0, "up"))
+
+# Each function with arguments by their names, in their order.
+CALLS = (
+    (orders.check_order, {"value": CROWN}),
+    (orders.order_of, {"n": 3, "links": ((2, 1), (0, 2))}),
+    (orders.covers, {"order": CROWN}),
+    (orders.below, {"order": CROWN, "x": 2}),
+    (orders.above, {"order": CROWN, "x": 1}),
+    (orders.is_below, {"order": CROWN, "x": 1, "y": 2}),
+    (orders.minimal, {"order": CROWN}),
+    (orders.maximal, {"order": CROWN}),
+    (orders.least, {"order": VEE}),
+    (orders.greatest, {"order": VEE}),
+    (orders.pieces, {"order": antichain(3)}),
+    (orders.is_connected, {"order": VEE}),
+    (building.induced, {"order": CROWN, "points": (0, 2, 3)}),
+    (building.opposite, {"order": VEE}),
+    (building.beside, {"first": VEE, "second": CROWN}),
+    (building.on_top, {"first": VEE, "second": CROWN}),
+    (building.product, {"first": VEE, "second": CROWN}),
+    (maps.check_map, {"first": VEE, "second": CROWN, "row": (0, 2, 3)}),
+    (maps.identity_map, {"order": VEE}),
+    (maps.compose, {"row": (1, 0, 1), "after": (2, 3)}),
+    (maps.at_most, {"second": VEE, "low": (0, 1), "high": (1, 1)}),
+    (maps.are_neighbours, {"second": VEE, "row": (1, 1), "other": (0, 1)}),
+    (maps.count_maps, {"first": VEE, "second": CROWN}),
+    (maps.all_maps, {"first": VEE, "second": CROWN}),
+    (steps.apply_steps, {"first": VEE, "second": VEE, "row": (0, 0, 0), "steps": STEPS}),
+    (steps.steps_up, {"first": VEE, "second": VEE, "low": (0, 0, 0), "high": (0, 1, 2)}),
+    (steps.steps_down, {"first": VEE, "second": VEE, "high": (0, 1, 2), "low": (0, 0, 0)}),
+    (steps.check_fence, {"first": VEE, "second": VEE, "rows": ROWS}),
+    (steps.fence_steps, {"first": VEE, "second": VEE, "rows": ROWS}),
+    (strikes.strikes_of, {"order": VEE, "points": (0, 1)}),
+    (strikes.partner, {"order": VEE, "points": (0, 1), "strike": (1, "down")}),
+    (strikes.points_left, {"order": VEE, "strikes": STRIKES[:1]}),
+    (strikes.is_finished, {"order": VEE, "strikes": STRIKES}),
+    (strikes.is_core, {"order": VEE}),
+    (cores.core_strikes, {"order": VEE}),
+    (cores.core_points, {"order": VEE}),
+    (cores.core, {"order": VEE}),
+    (cores.strike_map, {"order": VEE, "strikes": STRIKES}),
+    (cores.strike_fence, {"order": VEE, "strikes": STRIKES}),
+    (cores.is_contractible, {"order": VEE}),
+)
+
+FAILURES = (
+    (orders.check_order, ((3, ((0, 1), (1, 2))),)),
+    (orders.check_order, (None,)),
+    (orders.order_of, (2, ((0, HUGE),))),
+    (orders.order_of, (3, ((2, 1), (1, 2)))),
+    (maps.check_map, (VEE, VEE, (1, 0, 0))),
+    (maps.check_map, (VEE, VEE, None)),
+    (steps.apply_steps, (VEE, VEE, (0, 0, 0), ((1, 1), (1, 1)))),
+    (steps.steps_up, (VEE, VEE, (0, 1, 1), (0, 0, 0))),
+    (steps.steps_down, (VEE, VEE, (0, 0, 0), (0, 1, 1))),
+    (strikes.partner, (CROWN, (0, 1, 2, 3), (0, "up"))),
+    (strikes.points_left, (VEE, ((1, "down"), (1, "down")))),
+    (cores.strike_map, (VEE, ((0, "up"),))),
+    (building.product, (chain(8), chain(9))),
+)
+
+
+class TestGeneralRules(unittest.TestCase):
+    def test_arguments_by_place_and_by_name(self):
+        for function, arguments in CALLS:
+            with self.subTest(function.__name__):
+                by_place = function(*arguments.values())
+                by_name = function(**arguments)
+                self.assertEqual(by_place, by_name)
+                self.assertTrue(is_plain(by_place) or isinstance(by_place, bool))
+
+    def test_equal_calls_have_equal_results_and_arguments_stay(self):
+        before = repr(CALLS)
+        results = [function(**arguments) for function, arguments in CALLS]
+        again = [function(**arguments) for function, arguments in CALLS]
+        self.assertEqual(results, again)
+        self.assertEqual(repr(CALLS), before)
+
+    def test_errors(self):
+        for function, arguments in FAILURES:
+            with self.subTest(function.__name__, arguments=arguments):
+                with self.assertRaises(StrikeError) as caught:
+                    function(*arguments)
+                told = vars(caught.exception)
+                with self.assertRaises(type(caught.exception)) as again:
+                    function(*arguments)
+                self.assertEqual(vars(again.exception), told)
+                self.assertTrue(all(is_plain(value) for value in told.values()))
+
+    def test_true_and_false_are_returned_themselves(self):
+        for function, arguments in CALLS:
+            if function.__name__.startswith(("is_", "are_")) or function.__name__ in ("at_most", "check_fence"):
+                self.assertIn(type(function(**arguments)), (bool,))
+
+    def test_checks_return_none(self):
+        self.assertIsNone(orders.check_order(EMPTY))
+        self.assertIsNone(maps.check_map(EMPTY, EMPTY, ()))
+
+    def test_too_large_comes_first(self):
+        for function, first, second in (
+            (maps.count_maps, antichain(9), EMPTY),
+            (maps.all_maps, antichain(11), EMPTY),
+            (building.beside, chain(64), chain(64)),
+            (building.on_top, chain(64), chain(64)),
+            (building.product, chain(64), chain(64)),
+        ):
+            with self.assertRaises(TooLarge):
+                function(first, second)
+
+    def test_all_functions_of_orders_take_64_points(self):
+        for order in (chain(64), antichain(64)):
+            for function, arguments in CALLS:
+                if list(arguments) == ["order"]:
+                    function(order)
