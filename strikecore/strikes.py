@@ -69,6 +69,28 @@ def points_left(order, strikes):
     return tuple(bits_of(full_mask(order[0]) & ~struck))
 
 
+def left_by(order, value):
+    """The points that a striking row leaves, or None if value, any value, is no striking row."""
+    if not isinstance(value, tuple) or not all(_is_strike(item) for item in value):
+        return None
+    try:
+        return points_left(order, value)
+    except NotStrikable:
+        return None
+
+
+def _is_strike(value):
+    """Whether a value, any value, is a pair of an integer and a way."""
+    if not isinstance(value, tuple) or len(value) != 2:
+        return False
+    return isinstance(value[0], int) and value[1] in WAYS
+
+
+def begins_with(value, word, length):
+    """Whether a value, any value, is a tuple of this length whose first item is the word."""
+    return isinstance(value, tuple) and len(value) == length and value[0] == word
+
+
 def is_finished(order, strikes):
     """Whether no strike can be made behind a striking row."""
     return not strikes_of(order, points_left(order, strikes))

@@ -166,6 +166,81 @@ def left_by(order, row):
     return tuple(x for x in range(order[0]) if x not in struck)
 
 
+def renamed(order, names):
+    """The order with names[x] in the place of x."""
+    return (order[0], tuple(sorted((names[x], names[y]) for x, y in order[1])))
+
+
+def shuffled(order, source):
+    names = list(range(order[0]))
+    source.shuffle(names)
+    return renamed(order, names)
+
+
+def renamings(first, second):
+    """All renamings, ascending, found by trying all rows; for small orders."""
+    if first[0] != second[0]:
+        return []
+    rows = itertools.permutations(range(first[0]))
+    return [row for row in rows if renamed(first, row) == second]
+
+
+def beside(first, second):
+    n = first[0]
+    return (n + second[0], first[1] + tuple((x + n, y + n) for x, y in second[1]))
+
+
+def label_rows(n):
+    """All ways to put n points together, each as one row of labels."""
+    return [row for row in itertools.product(range(n), repeat=n) if list(dict.fromkeys(row)) == list(range(len(set(row))))]
+
+
+def quotient(order, labels):
+    names = list(dict.fromkeys(labels))
+    classes = [names.index(label) for label in labels]
+    pairs = closure({(classes[x], classes[y]) for x, y in order[1] if classes[x] != classes[y]})
+    if any((y, x) in pairs for x, y in pairs):
+        return None
+    return (len(names), tuple(sorted(pairs)))
+
+
+def is_rows_end(order, row):
+    """Whether no strike can be made behind a striking row."""
+    return not strikes_of(order, left_by(order, row))
+
+
+def is_strike_row(order, row):
+    points = tuple(range(order[0]))
+    for strike in row:
+        if partner(order, points, strike) is None:
+            return False
+        points = tuple(x for x in points if x != strike[0])
+    return True
+
+
+def led_on(order, row):
+    """For each point the point left that its partners lead to."""
+    partners = {}
+    points = tuple(range(order[0]))
+    for strike in row:
+        partners[strike[0]] = partner(order, points, strike)
+        points = tuple(x for x in points if x != strike[0])
+    ends = []
+    for x in range(order[0]):
+        while x in partners:
+            x = partners[x]
+        ends.append(x)
+    return tuple(ends)
+
+
+def points_below(order, points, x):
+    return tuple(y for y in points if (y, x) in order[1])
+
+
+def points_above(order, points, x):
+    return tuple(y for y in points if (x, y) in order[1])
+
+
 def is_plain(value):
     """Whether a value is built of plain tuples, strings, integers and None only."""
     if type(value) is tuple:

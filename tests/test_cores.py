@@ -111,7 +111,7 @@ class TestStrikeMaps(unittest.TestCase):
         self.assertEqual(strike_map(order, row), rows[-1])
         self.assertIs(check_fence(order, order, rows), True)
         for j in range(len(row) + 1):
-            self.assertEqual(rows[j], expected_map(order, row[:j]))
+            self.assertEqual(rows[j], reference.led_on(order, row[:j]))
             self.assertEqual(strike_map(order, row[:j]), rows[j])
             self.assertTrue(all(rows[j][x] == x for x in left))
         self.assertEqual(set(rows[-1]), set(left))
@@ -137,21 +137,6 @@ class TestStrikeMaps(unittest.TestCase):
         self.assertEqual(rows[-1], (63,) * 64)
         self.assertEqual(rows[5], (5,) * 5 + tuple(range(5, 64)))
         self.assertIs(check_fence(chain(64), chain(64), rows), True)
-
-
-def expected_map(order, row):
-    """Each point goes to its partner when it is struck, and so on."""
-    partners = {}
-    points = tuple(range(order[0]))
-    for strike in row:
-        partners[strike[0]] = reference.partner(order, points, strike)
-        points = tuple(x for x in points if x != strike[0])
-    ends = []
-    for x in range(order[0]):
-        while x in partners:
-            x = partners[x]
-        ends.append(x)
-    return tuple(ends)
 
 
 class TestContractible(unittest.TestCase):

@@ -2,13 +2,14 @@
 
 import unittest
 
-from strikecore import building, cores, maps, orders, steps, strikes
+from strikecore import alike, building, cores, firm, maps, orders, quotients, shapes, steps, strikes
 from strikecore.errors import StrikeError, TooLarge
 from tests.reference import CROWN, EMPTY, HUGE, VEE, antichain, chain, is_plain
 
 STEPS = ((1, 1), (2, 2))
 ROWS = ((0, 0, 0), (0, 1, 2), (0, 1, 0))
 STRIKES = ((1, "down"), (0, "up"))
+SHAPE = ("yes", ((1, "down"),), ((2, "down"),), (0, 1))
 
 # Each function with arguments by their names, in their order.
 CALLS = (
@@ -52,6 +53,16 @@ CALLS = (
     (cores.strike_map, {"order": VEE, "strikes": STRIKES}),
     (cores.strike_fence, {"order": VEE, "strikes": STRIKES}),
     (cores.is_contractible, {"order": VEE}),
+    (alike.renaming_of, {"first": CROWN, "second": CROWN}),
+    (alike.is_renaming, {"first": VEE, "second": VEE, "value": (0, 2, 1)}),
+    (quotients.quotient, {"order": CROWN, "labels": (7, 7, HUGE, -1)}),
+    (quotients.test_counts, {"test": VEE, "first": VEE, "second": CROWN}),
+    (quotients.find_test, {"first": CROWN, "second": antichain(4)}),
+    (shapes.same_shape, {"first": VEE, "second": CROWN}),
+    (shapes.check_shape, {"first": VEE, "second": VEE, "answer": SHAPE}),
+    (shapes.shape_maps, {"first": VEE, "second": VEE, "answer": SHAPE}),
+    (firm.firm, {"order": VEE, "part": (1,)}),
+    (firm.check_firm, {"order": VEE, "part": (0, 2), "answer": ("firm", STRIKES[:1])}),
 )
 
 FAILURES = (
@@ -68,7 +79,16 @@ FAILURES = (
     (strikes.points_left, (VEE, ((1, "down"), (1, "down")))),
     (cores.strike_map, (VEE, ((0, "up"),))),
     (building.product, (chain(8), chain(9))),
+    (alike.renaming_of, (chain(9), chain(9))),
+    (quotients.test_counts, (chain(9), VEE, VEE)),
+    (quotients.find_test, (EMPTY, chain(9))),
+    (shapes.same_shape, (antichain(9), antichain(9))),
+    (shapes.shape_maps, (VEE, CROWN, ("no", STRIKES, (), (1, ())))),
+    (shapes.shape_maps, (VEE, VEE, None)),
 )
+
+# The functions that return True or False without saying so by their names.
+YES_OR_NO = (maps.at_most, steps.check_fence, shapes.check_shape, firm.check_firm)
 
 
 class TestGeneralRules(unittest.TestCase):
@@ -100,8 +120,8 @@ class TestGeneralRules(unittest.TestCase):
 
     def test_true_and_false_are_returned_themselves(self):
         for function, arguments in CALLS:
-            if function.__name__.startswith(("is_", "are_")) or function.__name__ in ("at_most", "check_fence"):
-                self.assertIn(type(function(**arguments)), (bool,))
+            if function.__name__.startswith(("is_", "are_")) or function in YES_OR_NO:
+                self.assertIs(type(function(**arguments)), bool)
 
     def test_checks_return_none(self):
         self.assertIsNone(orders.check_order(EMPTY))
@@ -114,6 +134,7 @@ class TestGeneralRules(unittest.TestCase):
             (building.beside, chain(64), chain(64)),
             (building.on_top, chain(64), chain(64)),
             (building.product, chain(64), chain(64)),
+            (quotients.find_test, antichain(9), EMPTY),
         ):
             with self.assertRaises(TooLarge):
                 function(first, second)

@@ -57,6 +57,24 @@ LANDED = {
         "strike_fence": "order strikes",
         "is_contractible": "order",
     },
+    "alike": {
+        "renaming_of": "first second",
+        "is_renaming": "first second value",
+    },
+    "quotients": {
+        "quotient": "order labels",
+        "test_counts": "test first second",
+        "find_test": "first second",
+    },
+    "shapes": {
+        "same_shape": "first second",
+        "check_shape": "first second answer",
+        "shape_maps": "first second answer",
+    },
+    "firm": {
+        "firm": "order part",
+        "check_firm": "order part answer",
+    },
 }
 
 
