@@ -22,10 +22,11 @@ def _has_form(value):
     n, pairs = value
     if not isinstance(n, int) or not 0 <= n <= MOST_POINTS or not isinstance(pairs, tuple):
         return False
-    return all(_is_pair(pair) for pair in pairs)
+    return all(is_pair(pair) for pair in pairs)
 
 
-def _is_pair(value):
+def is_pair(value):
+    """Whether a value, any value, is a pair of integers."""
     if not isinstance(value, tuple) or len(value) != 2:
         return False
     return isinstance(value[0], int) and isinstance(value[1], int)

@@ -12,8 +12,10 @@ class StepRules:
     def __init__(self, first, second):
         self.n = first[0]
         self.m = second[0]
-        self.ups = masks_above(first)
-        self.downs = masks_below(first)
+        links = (first[0], covers(first))
+        # A map rises if its values rise along covers.
+        self.over = [bits_of(mask) for mask in masks_above(links)]
+        self.under = [bits_of(mask) for mask in masks_below(links)]
         self.near = neighbour_masks(second)
         self.higher = with_selves(masks_above(second))
         self.lower = with_selves(masks_below(second))
@@ -22,14 +24,21 @@ class StepRules:
         """Whether the rising map row may take x, any integer, to this value, any integer, next."""
         if not 0 <= x < self.n or not 0 <= value < self.m:
             return False
-        return bool(self.near[row[x]] >> value & 1) and self.keeps_rising(row, x, value)
+        return bool(self.values_at(row, x) >> value & 1)
 
-    def keeps_rising(self, row, x, value):
-        """Whether a rising map is still rising with this value at x."""
-        # Only pairs with x in them can have been broken.
-        if not all(self.higher[value] >> row[y] & 1 for y in bits_of(self.ups[x])):
-            return False
-        return all(self.lower[value] >> row[y] & 1 for y in bits_of(self.downs[x]))
+    def values_at(self, row, x):
+        """The set of the values to which the rising map row may take the point x next."""
+        values = self.near[row[x]]
+        # Only pairs with x in them can be broken.
+        for y in self.over[x]:
+            values &= self.lower[row[y]]
+        for y in self.under[x]:
+            values &= self.higher[row[y]]
+        return values
+
+    def maps_near(self, row):
+        """The maps that come of the rising map row by one allowed step, by the order of the steps."""
+        return [row[:x] + (value,) + row[x + 1 :] for x in range(self.n) for value in bits_of(self.values_at(row, x))]
 
 
 def apply_steps(first, second, row, steps):

@@ -150,12 +150,12 @@ def core_strikes(order):
     return row
 
 
-def random_row(order, source, length=None):
-    """A striking row of random strikes; finished if no length is told."""
+def random_row(order, source, length=None, moves_of=strikes_of):
+    """A row of random strikes; until there is none if no length is told."""
     points = tuple(range(order[0]))
     row = ()
-    while strikes_of(order, points) and len(row) != length:
-        strike = source.choice(strikes_of(order, points))
+    while moves_of(order, points) and len(row) != length:
+        strike = source.choice(moves_of(order, points))
         row += (strike,)
         points = tuple(x for x in points if x != strike[0])
     return row
@@ -192,7 +192,8 @@ def beside(first, second):
 
 def label_rows(n):
     """All ways to put n points together, each as one row of labels."""
-    return [row for row in itertools.product(range(n), repeat=n) if list(dict.fromkeys(row)) == list(range(len(set(row))))]
+    rows = itertools.product(range(n), repeat=n)
+    return [row for row in rows if list(dict.fromkeys(row)) == list(range(len(set(row))))]
 
 
 def quotient(order, labels):
@@ -202,20 +203,6 @@ def quotient(order, labels):
     if any((y, x) in pairs for x, y in pairs):
         return None
     return (len(names), tuple(sorted(pairs)))
-
-
-def is_rows_end(order, row):
-    """Whether no strike can be made behind a striking row."""
-    return not strikes_of(order, left_by(order, row))
-
-
-def is_strike_row(order, row):
-    points = tuple(range(order[0]))
-    for strike in row:
-        if partner(order, points, strike) is None:
-            return False
-        points = tuple(x for x in points if x != strike[0])
-    return True
 
 
 def led_on(order, row):
@@ -239,6 +226,69 @@ def points_below(order, points, x):
 
 def points_above(order, points, x):
     return tuple(y for y in points if (x, y) in order[1])
+
+
+def steps_near(first, second, row):
+    """All allowed small steps, ascending."""
+    steps = itertools.product(range(first[0]), range(second[0]))
+    return [step for step in steps if step_is_allowed(first, second, row, step)]
+
+
+def after_step(row, step):
+    x, value = step
+    return row[:x] + (value,) + row[x + 1:]
+
+
+def piece(first, second, row):
+    """The piece of a map in the sequence that [33] tells."""
+    rows = [row]
+    for present in rows:
+        for step in steps_near(first, second, present):
+            if after_step(present, step) not in rows:
+                rows.append(after_step(present, step))
+    return tuple(rows)
+
+
+def map_left(first, second, a, b, row):
+    """The map that comes of row between what striking rows leave."""
+    ends = led_on(second, b)
+    left = left_by(second, b)
+    return tuple(left.index(ends[row[x]]) for x in left_by(first, a))
+
+
+def is_contractible(order, points):
+    part = induced(order, points)
+    return len(core_strikes(part)) == part[0] - 1
+
+
+def weak_strikes_of(order, points):
+    strikes = [(x, "above") for x in points if is_contractible(order, points_above(order, points, x))]
+    strikes += [(x, "below") for x in points if is_contractible(order, points_below(order, points, x))]
+    return tuple(sorted(strikes))
+
+
+def weak_row(order):
+    points = tuple(range(order[0]))
+    row = ()
+    while weak_strikes_of(order, points):
+        every = weak_strikes_of(order, points)
+        x = every[0][0]
+        row += ((x, "below" if (x, "below") in every else "above"),)
+        points = tuple(y for y in points if y != x)
+    return row
+
+
+def random_weak_row(order, source, length=None):
+    return random_row(order, source, length, weak_strikes_of)
+
+
+def chains(order):
+    """All chains in the sequence of [37], found among all rows of points; for small orders."""
+    found = []
+    for size in range(1, order[0] + 1):
+        rows = itertools.permutations(range(order[0]), size)
+        found += [row for row in rows if all((row[i], row[i + 1]) in order[1] for i in range(size - 1))]
+    return tuple(found)
 
 
 def is_plain(value):

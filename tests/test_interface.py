@@ -75,6 +75,28 @@ LANDED = {
         "firm": "order part",
         "check_firm": "order part answer",
     },
+    "led": {
+        "core_map": "first second row",
+        "list_piece": "first second row",
+        "led": "first second start goal",
+        "check_led": "first second start goal answer",
+    },
+    "chains": {
+        "chains": "order",
+        "chain_counts": "order",
+        "euler": "order",
+        "moebius": "order x y",
+        "homology": "order",
+    },
+    "weak": {
+        "weak_strikes_of": "order points",
+        "weak_left": "order strikes",
+        "weak_row": "order",
+    },
+    "collapses": {
+        "collapses": "order strikes",
+        "check_collapses": "order points value",
+    },
 }
 
 

@@ -11,7 +11,8 @@ from strikecore.quotients import find_test, quotient
 from strikecore.quotients import test_counts as counts_of
 from tests import reference
 from tests.reference import CROWN, EMPTY, HUGE, POINT, SMALL_ORDERS, VEE, WEDGE
-from tests.reference import antichain, are_alike, beside, chain, is_plain, label_rows, maps_by_trying, random_orders, ring, shuffled
+from tests.reference import antichain, are_alike, beside, chain, is_plain, label_rows, maps_by_trying
+from tests.reference import random_orders, ring, shuffled
 
 FOUR_POINTS = reference.all_orders(4)
 EXAMPLE = ((4, ((0, 1), (0, 2))), (4, ((0, 2), (1, 2))))

@@ -108,8 +108,8 @@ class TestSameShape(unittest.TestCase):
             self.assertIs(check_shape(first, second, answer), True)
 
     def test_cores_with_the_same_number_of_points(self):
-        for first, second in ((ring(4), antichain(8)), (product(ring(4), chain(8)), antichain(8)), (antichain(8), antichain(8))):
-            self.assertEqual(same_shape(first, second)[0], "yes" if first == second else "no")
+        for first in (ring(4), product(ring(4), chain(8)), antichain(8)):
+            self.assertEqual(same_shape(first, antichain(8))[0], "yes" if first == antichain(8) else "no")
         for first, second in (
             (antichain(9), antichain(9)),
             (antichain(10), ring(5)),
