@@ -17,7 +17,7 @@ def renaming_of(first, second):
 
 
 class RenamingSearch:
-    """Looks for the least renaming of first to second, two orders of equally many points."""
+    """Looks for renamings of first to second, two orders of equally many points."""
 
     def __init__(self, first, second):
         self.ups = masks_above(first)
@@ -38,6 +38,16 @@ class RenamingSearch:
                 if found is not None:
                     return found
         return None
+
+    def all_from(self, row):
+        """The ascending list of all renamings that begin with row."""
+        if len(row) == len(self.ups):
+            return [row]
+        found = []
+        for value in range(len(self.ups)):
+            if self.fits(row, value):
+                found.extend(self.all_from(row + (value,)))
+        return found
 
     def fits(self, row, value):
         """Whether row, the beginning of a renaming, may go on with this value."""

@@ -135,9 +135,14 @@ def all_maps(first, second):
     """The ascending tuple of all rising maps from first to second."""
     if first[0] > MOST_LISTED_POINTS or second[0] > MOST_VALUES:
         raise TooLarge()
+    return list_maps(first, second, MOST_LISTED_MAPS)
+
+
+def list_maps(first, second, most):
+    """The ascending tuple of all rising maps; TooLarge if there are more than this."""
     if first[0] and not second[0]:
         return ()
-    finder = MapList(first, second)
+    finder = MapList(first, second, most)
     finder.search([full_mask(second[0])] * first[0])
     return tuple(sorted(finder.found))
 
@@ -149,11 +154,12 @@ class MapList:
     so few choices lead to no map.
     """
 
-    def __init__(self, first, second):
+    def __init__(self, first, second, most=MOST_LISTED_MAPS):
         self.ups = masks_above(first)
         self.downs = masks_below(first)
         self.higher = with_selves(masks_above(second))
         self.lower = with_selves(masks_below(second))
+        self.most = most
         self.found = []
 
     def search(self, domains):
@@ -170,9 +176,20 @@ class MapList:
 
     def take(self, domains):
         """Keeps the map that takes each point to its only value."""
-        if len(self.found) == MOST_LISTED_MAPS:
+        if len(self.found) == self.most:
             raise TooLarge()
         self.found.append(tuple(lowest_bit(mask) for mask in domains))
+
+    def least_from(self, domains, x):
+        """The least map with values in these sets, those of the points ahead of x being chosen, or None."""
+        if x == len(domains):
+            return tuple(lowest_bit(mask) for mask in domains)
+        for value in bits_of(domains[x]):
+            rest = self.narrow(domains, x, value)
+            found = None if rest is None else self.least_from(rest, x + 1)
+            if found is not None:
+                return found
+        return None
 
     def narrow(self, domains, chosen, value):
         """The sets that are left if the chosen point has this value, or None."""

@@ -71,7 +71,7 @@ def points_left(order, strikes):
 
 def left_by(order, value):
     """The points that a striking row leaves, or None if value, any value, is no striking row."""
-    if not isinstance(value, tuple) or not all(_is_strike(item) for item in value):
+    if not is_strike_tuple(value, WAYS):
         return None
     try:
         return points_left(order, value)
@@ -79,11 +79,15 @@ def left_by(order, value):
         return None
 
 
-def _is_strike(value):
-    """Whether a value, any value, is a pair of an integer and a way."""
+def is_strike_tuple(value, ways):
+    """Whether value, any value, is a tuple of pairs of an integer and one of the ways."""
+    return isinstance(value, tuple) and all(_is_strike(item, ways) for item in value)
+
+
+def _is_strike(value, ways):
     if not isinstance(value, tuple) or len(value) != 2:
         return False
-    return isinstance(value[0], int) and value[1] in WAYS
+    return isinstance(value[0], int) and value[1] in ways
 
 
 def begins_with(value, word, length):

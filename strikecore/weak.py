@@ -3,6 +3,7 @@
 from strikecore.cores import contracts
 from strikecore.errors import NotStrikable
 from strikecore.masks import bits_of, full_mask, mask_of, masks_above, masks_below
+from strikecore.strikes import is_strike_tuple
 
 WEAK_WAYS = ("above", "below")
 
@@ -59,6 +60,16 @@ def weak_left(order, strikes):
             raise NotStrikable(at)
         left ^= 1 << strike[0]
     return tuple(bits_of(left))
+
+
+def weak_left_by(order, value):
+    """The points that a weak row leaves, or None if value, any value, is no weak row."""
+    if not is_strike_tuple(value, WEAK_WAYS):
+        return None
+    try:
+        return weak_left(order, value)
+    except NotStrikable:
+        return None
 
 
 def weak_row(order):

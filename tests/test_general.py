@@ -2,8 +2,8 @@
 
 import unittest
 
-from strikecore import alike, building, chains, collapses, cores, firm, led, maps, orders, quotients, shapes, steps
-from strikecore import strikes, weak
+from strikecore import alike, building, chains, collapses, cores, coverings, fibres, firm, fixed, joined, led, maps
+from strikecore import orders, quotients, shapes, steps, strikes, weak
 from strikecore.errors import StrikeError, TooLarge
 from tests.reference import CROWN, EMPTY, HUGE, VEE, antichain, chain, is_plain
 
@@ -14,6 +14,9 @@ WEAK_STRIKES = ((1, "below"), (0, "above"))
 APART = ("not", (), (), ((0, 1, 2, 3),))
 PAIRS = (((1,), (0, 1)), ((2,), (0, 2)))
 SHAPE = ("yes", ((1, "down"),), ((2, "down"),), (0, 1))
+FREE = ("free", (1, 0, 3, 2))
+JOINED = ("joined", WEAK_STRIKES[:1], WEAK_STRIKES[:1], (0, 1))
+TABLE = ((0, 1, (1, 0)), (0, 2, (0, 1)))
 
 # Each function with arguments by their names, in their order.
 CALLS = (
@@ -85,6 +88,30 @@ CALLS = (
     (weak.weak_row, {"order": VEE}),
     (collapses.collapses, {"order": VEE, "strikes": WEAK_STRIKES}),
     (collapses.check_collapses, {"order": VEE, "points": (0,), "value": PAIRS}),
+    (fixed.fixed_points, {"order": VEE, "row": (0, 2, 1)}),
+    (fixed.lefschetz, {"order": VEE, "row": (0, 2, 1)}),
+    (fixed.fixed_answer, {"order": VEE}),
+    (fixed.fixed_answer, {"order": CROWN}),
+    (fixed.check_fixed, {"order": CROWN, "answer": FREE}),
+    (joined.joined, {"first": VEE, "second": CROWN}),
+    (joined.joined, {"first": CROWN, "second": CROWN}),
+    (joined.check_joined, {"first": VEE, "second": VEE, "answer": JOINED}),
+    (fibres.fibre, {"first": VEE, "second": CROWN, "row": (0, 2, 3), "q": 2}),
+    (fibres.adjoint, {"first": chain(3), "second": chain(2), "row": (0, 0, 1)}),
+    (fibres.cylinder, {"first": VEE, "second": CROWN, "row": (0, 2, 3)}),
+    (fibres.onto_second, {"first": VEE, "second": CROWN, "row": (0, 2, 3)}),
+    (fibres.onto_first, {"first": VEE, "second": chain(2), "row": (0, 1, 1)}),
+    (coverings.check_table, {"order": VEE, "sheets": 2, "table": TABLE}),
+    (coverings.along, {"order": VEE, "sheets": 2, "table": TABLE, "x": 0, "y": 1}),
+    (coverings.covering, {"order": VEE, "sheets": 2, "table": TABLE}),
+    (coverings.sheet_map, {"order": VEE, "sheets": 2}),
+    (coverings.lift, {"base": chain(2), "order": VEE, "sheets": 2, "table": TABLE, "row": (0, 1)}),
+    (coverings.alike_over, {"order": VEE, "sheets": 2, "table": TABLE, "other": TABLE}),
+    (coverings.drop_covering, {"order": VEE, "sheets": 2, "table": TABLE, "strike": (1, "down")}),
+    (
+        coverings.grow_covering,
+        {"order": VEE, "sheets": 2, "strike": (2, "down"), "table": TABLE[:1]},
+    ),
 )
 
 FAILURES = (
@@ -115,6 +142,23 @@ FAILURES = (
     (collapses.collapses, (VEE, ((0, "below"),))),
     (collapses.collapses, (chain(11), ((0, "below"),))),
     (collapses.check_collapses, (chain(11), (), ())),
+    (fixed.fixed_answer, (antichain(9),)),
+    (joined.joined, (antichain(9), antichain(9))),
+    (fibres.cylinder, (chain(64), VEE, (0,) * 64)),
+    (fibres.onto_second, (chain(64), VEE, (0,) * 64)),
+    (fibres.onto_first, (chain(64), VEE, (0,) * 64)),
+    (fibres.onto_first, (VEE, chain(2), (1, 1, 1))),
+    (coverings.check_table, (VEE, 5, TABLE)),
+    (coverings.check_table, (VEE, 2, None)),
+    (coverings.check_table, (building.product(chain(2), chain(2)), 2, TABLE + ((1, 3, (0, 1)), (2, 3, (0, 1))))),
+    (coverings.along, (VEE, 2, TABLE, 1, 2)),
+    (coverings.covering, (chain(17), 2, ())),
+    (coverings.sheet_map, (VEE, 0)),
+    (coverings.lift, (CROWN, VEE, 2, TABLE, (0, 0, 0, 0))),
+    (coverings.lift, (chain(2), VEE, 2, TABLE, (1, 1))),
+    (coverings.alike_over, (chain(17), 2, (), ())),
+    (coverings.drop_covering, (VEE, 2, TABLE, (0, "up"))),
+    (coverings.grow_covering, (VEE, 2, (HUGE, "up"), TABLE[:1])),
 )
 
 # The functions that return True or False without saying so by their names.
@@ -125,7 +169,12 @@ YES_OR_NO = (
     firm.check_firm,
     led.check_led,
     collapses.check_collapses,
+    fixed.check_fixed,
+    joined.check_joined,
 )
+
+# The functions of one order that raise TooLarge for some orders of up to 64 points.
+WITH_BOUNDS = (chains.chains, chains.homology, fixed.fixed_answer)
 
 
 class TestGeneralRules(unittest.TestCase):
@@ -179,6 +228,5 @@ class TestGeneralRules(unittest.TestCase):
     def test_all_functions_of_orders_take_64_points(self):
         for order in (chain(64), antichain(64)):
             for function, arguments in CALLS:
-                # These two raise TooLarge for more than 10 points, one of them of what is left.
-                if list(arguments) == ["order"] and function not in (chains.chains, chains.homology):
+                if list(arguments) == ["order"] and function not in WITH_BOUNDS:
                     function(order)

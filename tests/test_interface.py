@@ -97,6 +97,39 @@ LANDED = {
         "collapses": "order strikes",
         "check_collapses": "order points value",
     },
+    "fixed": {
+        "fixed_points": "order row",
+        "lefschetz": "order row",
+        "fixed_answer": "order",
+        "check_fixed": "order answer",
+    },
+    "joined": {
+        "joined": "first second",
+        "check_joined": "first second answer",
+    },
+    "fibres": {
+        "fibre": "first second row q side",
+        "adjoint": "first second row",
+        "cylinder": "first second row",
+        "onto_second": "first second row",
+        "onto_first": "first second row",
+    },
+    "coverings": {
+        "check_table": "order sheets table",
+        "along": "order sheets table x y",
+        "covering": "order sheets table",
+        "sheet_map": "order sheets",
+        "lift": "base order sheets table row point start",
+        "alike_over": "order sheets table other",
+        "drop_covering": "order sheets table strike",
+        "grow_covering": "order sheets strike table",
+    },
+}
+
+# The parameters that are passed by name only, with their defaults.
+BY_NAME_ONLY = {
+    "fibre": {"side": "below"},
+    "lift": {"point": 0, "start": 0},
 }
 
 
@@ -118,6 +151,11 @@ class TestInterface(unittest.TestCase):
                 with self.subTest(file_name, name=name):
                     told = inspect.signature(getattr(module, name)).parameters.values()
                     self.assertEqual([parameter.name for parameter in told], parameters.split())
+                    defaults = BY_NAME_ONLY.get(name, {})
                     for parameter in told:
-                        self.assertEqual(parameter.kind, parameter.POSITIONAL_OR_KEYWORD)
-                        self.assertIs(parameter.default, parameter.empty)
+                        if parameter.name in defaults:
+                            self.assertEqual(parameter.kind, parameter.KEYWORD_ONLY)
+                            self.assertEqual(parameter.default, defaults[parameter.name])
+                        else:
+                            self.assertEqual(parameter.kind, parameter.POSITIONAL_OR_KEYWORD)
+                            self.assertIs(parameter.default, parameter.empty)

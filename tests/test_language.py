@@ -22,9 +22,17 @@ ALLOWED_METHODS = set(
     "setdefault split splitlines startswith strip update upper values zfill bit_length add discard sort".split()
 )
 
+# What may be imported besides the package's own files, as far as the package needs it.
+LIBRARY = {"itertools": {"permutations"}}
+
+# These words stand nowhere, the others may stand in strings.
 BARRED_WORDS = re.compile(
-    r"\b(type|typing|typing_extensions|enum|Enum|Generic|Protocol|ABC|namedtuple|NamedTuple|register|mro|elements|"
-    r"open|input|law|version_info|compile|dir|eval|exec|exit|globals|help|id|locals|vars|async|global|chr|float)\b"
+    r"\b(type|typing|typing_extensions|enum|Enum|IntEnum|StrEnum|Flag|IntFlag|Generic|Protocol|ABC|ABCMeta|namedtuple|"
+    r"NamedTuple|TypedDict|TYPE_CHECKING|abstractmethod)\b"
+)
+BARRED_NAMES = re.compile(
+    r"\b(register|mro|elements|open|input|law|version_info|compile|dir|eval|exec|exit|globals|help|id|locals|vars|async|"
+    r"global|chr|float)\b"
 )
 
 FORBIDDEN_NODES = (
@@ -52,6 +60,14 @@ def code_without_docstrings(tree):
     for node in ast.walk(tree):
         if isinstance(node, (ast.Module, ast.FunctionDef, ast.ClassDef)) and ast.get_docstring(node) is not None:
             node.body = node.body[1:] or [ast.Pass()]
+    return ast.unparse(tree)
+
+
+def code_without_strings(tree):
+    """The code again, without comments, its strings being empty."""
+    for node in ast.walk(tree):
+        if isinstance(node, ast.Constant) and isinstance(node.value, str):
+            node.value = ""
     return ast.unparse(tree)
 
 
@@ -93,10 +109,13 @@ class TestLanguage(unittest.TestCase):
             if isinstance(node, ast.ImportFrom):
                 self.assertTrue(ahead)
                 self.assertEqual(node.level, 0)
+                self.assertTrue(all(alias.asname is None for alias in node.names))
+                if node.module in LIBRARY:
+                    self.assertTrue({alias.name for alias in node.names} <= LIBRARY[node.module])
+                    continue
                 self.assertRegex(node.module, r"^strikecore\.[a-z]+$")
                 source = ast.parse(text_of(os.path.join(PACKAGE, node.module.split(".")[1] + ".py")))
                 self.assertTrue({alias.name for alias in node.names} <= names_bound(source, imports=False))
-                self.assertTrue(all(alias.asname is None for alias in node.names))
             elif not is_docstring(node):
                 ahead = False
 
@@ -105,7 +124,8 @@ class TestLanguage(unittest.TestCase):
         for path in package_files():
             tree = ast.parse(text_of(path))
             name = os.path.basename(path)[:-3]
-            near[name] = {node.module.split(".")[1] for node in tree.body if isinstance(node, ast.ImportFrom)}
+            imports = [node.module for node in tree.body if isinstance(node, ast.ImportFrom)]
+            near[name] = {module.split(".")[1] for module in imports if module not in LIBRARY}
         self.assertEqual(near["__init__"], set())
         while near:
             free = [name for name, others in near.items() if not others & set(near)]
@@ -158,6 +178,7 @@ class TestLanguage(unittest.TestCase):
             if isinstance(node, (ast.FunctionDef, ast.ClassDef)):
                 self.assertEqual([one.id for one in node.decorator_list if one.id != "property"], [])
         self.assertIsNone(BARRED_WORDS.search(code_without_docstrings(ast.parse(text))))
+        self.assertIsNone(BARRED_NAMES.search(code_without_strings(ast.parse(text))))
 
     @each_file
     def test_methods_of_builtin_values(self, _, tree):
