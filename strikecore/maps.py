@@ -133,13 +133,13 @@ def _points_in(domains):
 
 def all_maps(first, second):
     """The ascending tuple of all rising maps from first to second."""
-    if first[0] > MOST_LISTED_POINTS or second[0] > MOST_VALUES:
-        raise TooLarge()
     return list_maps(first, second, MOST_LISTED_MAPS)
 
 
 def list_maps(first, second, most):
-    """The ascending tuple of all rising maps; TooLarge if there are more than this."""
+    """The ascending tuple of all rising maps; TooLarge for large orders and for more maps than this."""
+    if first[0] > MOST_LISTED_POINTS or second[0] > MOST_VALUES:
+        raise TooLarge()
     if first[0] and not second[0]:
         return ()
     finder = MapList(first, second, most)

@@ -467,7 +467,7 @@ class TestLift(unittest.TestCase):
         for base, order, sheets in (
             (antichain(17), CROWN, 2),
             (chain(17), CROWN, 2),
-            (chain(64), chain(64), 1),
+            (antichain(64), antichain(64), 1),
             (POINT, chain(17), 1),
             (EMPTY, antichain(17), 1),
             (POINT, POINT, 0),

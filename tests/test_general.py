@@ -2,8 +2,10 @@
 
 import unittest
 
-from strikecore import alike, building, chains, collapses, cores, coverings, fibres, firm, fixed, joined, led, maps
-from strikecore import orders, quotients, shapes, steps, strikes, weak
+from strikecore import alike, building, chains, collapses, cores, coverings, families, fibres, firm, fixed, joined, led
+from strikecore import maps, orders, quotients, shapes, steps, strikes, texts, weak
+from strikecore.books import Book
+from strikecore.desk import Desk
 from strikecore.errors import StrikeError, TooLarge
 from tests.reference import CROWN, EMPTY, HUGE, VEE, antichain, chain, is_plain
 
@@ -112,7 +114,32 @@ CALLS = (
         coverings.grow_covering,
         {"order": VEE, "sheets": 2, "strike": (2, "down"), "table": TABLE[:1]},
     ),
+    (families.map_order, {"first": VEE, "second": VEE}),
+    (families.symmetries, {"order": CROWN}),
+    (families.closures, {"order": chain(3)}),
+    (families.interiors, {"order": VEE}),
+    (families.sphere, {"k": 2}),
+    (families.crown, {"k": 3}),
+    (families.turns, {"k": 2, "m": 2, "row": (0, 1, 3, 2)}),
+    (texts.write_order, {"order": CROWN}),
+    (texts.read_order, {"text": "order 3\n\n0\n0 1"}),
+    (texts.write_row, {"row": (0, 2, 63)}),
+    (texts.read_row, {"text": "0 2 63"}),
+    (texts.write_strikes, {"strikes": STRIKES + WEAK_STRIKES}),
+    (texts.read_strikes, {"text": "0 up, 3 below"}),
 )
+
+# The same for the methods of a book, or of a desk.
+METHODS = (
+    ("put_point", {"under": (0, 1), "over": ()}),
+    ("drop_point", {"x": 2}),
+    ("put_pair", {"x": 0, "y": 1}),
+    ("drop_pair", {"x": 1, "y": 3}),
+    ("put_beside", {"other": VEE}),
+    ("put_on_top", {"other": VEE}),
+    ("turn", {}),
+)
+LINES = ("put 0,1 .", "drop 2", "tie 0 1", "cut 1 3", "turn", "core", "row", "euler", "homology", "fixed", "text", "same")
 
 FAILURES = (
     (orders.check_order, ((3, ((0, 1), (1, 2))),)),
@@ -159,6 +186,32 @@ FAILURES = (
     (coverings.alike_over, (chain(17), 2, (), ())),
     (coverings.drop_covering, (VEE, 2, TABLE, (0, "up"))),
     (coverings.grow_covering, (VEE, 2, (HUGE, "up"), TABLE[:1])),
+    (families.map_order, (antichain(3), antichain(5))),
+    (families.symmetries, (chain(9),)),
+    (families.closures, (chain(11),)),
+    (families.interiors, (chain(11),)),
+    (families.sphere, (32,)),
+    (families.crown, (33,)),
+    (texts.read_order, ("order 1\n\n",)),
+    (texts.read_order, ("order 2\n1\n0",)),
+    (texts.read_row, ("64",)),
+    (texts.read_strikes, ("0 beside",)),
+    (Book, ((2, ((0, 1), (1, 0))),)),
+    (Book(CROWN).put_point, ((2,), ())),
+    (Book(CROWN).put_point, (None, ())),
+    (Book(chain(64)).put_point, ((), ())),
+    (Book(CROWN).drop_point, (HUGE,)),
+    (Book(CROWN).put_pair, (2, 0)),
+    (Book(CROWN).put_pair, (0, -1)),
+    (Book(CROWN).drop_pair, (0, 1)),
+    (Book(CROWN).drop_pair, (4, 0)),
+    (Book(CROWN).put_beside, (chain(61),)),
+    (Book(CROWN).put_on_top, (chain(61),)),
+    (Book(CROWN).undo, ()),
+    (Book(CROWN).redo, ()),
+    (Desk, ("order 1",)),
+    (Desk("order 2\n\n0").answer, ("put 1 .",)),
+    (Desk("order 2\n\n0").answer, ("drop",)),
 )
 
 # The functions that return True or False without saying so by their names.
@@ -174,7 +227,10 @@ YES_OR_NO = (
 )
 
 # The functions of one order that raise TooLarge for some orders of up to 64 points.
-WITH_BOUNDS = (chains.chains, chains.homology, fixed.fixed_answer)
+WITH_BOUNDS = (
+    (chains.chains, chains.homology, fixed.fixed_answer)
+    + (families.symmetries, families.closures, families.interiors)
+)
 
 
 class TestGeneralRules(unittest.TestCase):
@@ -204,6 +260,27 @@ class TestGeneralRules(unittest.TestCase):
                 self.assertEqual(vars(again.exception), told)
                 self.assertTrue(all(is_plain(value) for value in told.values()))
 
+    def test_methods_by_place_and_by_name(self):
+        before = repr(METHODS)
+        for name, arguments in METHODS:
+            with self.subTest(name):
+                by_place, by_name = Book(CROWN), Book(order=CROWN)
+                found = getattr(by_place, name)(*arguments.values())
+                self.assertEqual(found, getattr(by_name, name)(**arguments))
+                self.assertEqual(by_place.order, by_name.order)
+                self.assertTrue(is_plain(found) and is_plain(by_place.order))
+        self.assertEqual(repr(METHODS), before)
+
+    def test_lines_by_place_and_by_name(self):
+        text = texts.write_order(CROWN)
+        for line in LINES:
+            by_place, by_name = Desk(text), Desk(text=text)
+            found = by_place.answer(line)
+            self.assertIs(type(found), str)
+            self.assertEqual(found, by_name.answer(line=line))
+            self.assertEqual(by_place.order, by_name.order)
+            self.assertTrue(is_plain(by_place.order))
+
     def test_true_and_false_are_returned_themselves(self):
         for function, arguments in CALLS:
             if function.__name__.startswith(("is_", "are_")) or function in YES_OR_NO:
@@ -221,6 +298,7 @@ class TestGeneralRules(unittest.TestCase):
             (building.on_top, chain(64), chain(64)),
             (building.product, chain(64), chain(64)),
             (quotients.find_test, antichain(9), EMPTY),
+            (families.map_order, antichain(11), EMPTY),
         ):
             with self.assertRaises(TooLarge):
                 function(first, second)

@@ -124,6 +124,43 @@ LANDED = {
         "drop_covering": "order sheets table strike",
         "grow_covering": "order sheets strike table",
     },
+    "families": {
+        "map_order": "first second",
+        "symmetries": "order",
+        "closures": "order",
+        "interiors": "order",
+        "sphere": "k",
+        "crown": "k",
+        "turns": "k m row",
+    },
+    "texts": {
+        "write_order": "order",
+        "read_order": "text",
+        "write_row": "row",
+        "read_row": "text",
+        "write_strikes": "strikes",
+        "read_strikes": "text",
+    },
+}
+
+# The classes, each with its methods; "__init__" tells how an object is made.
+CLASSES = {
+    ("books", "Book"): {
+        "__init__": "self order",
+        "put_point": "self under over",
+        "drop_point": "self x",
+        "put_pair": "self x y",
+        "drop_pair": "self x y",
+        "put_beside": "self other",
+        "put_on_top": "self other",
+        "turn": "self",
+        "undo": "self",
+        "redo": "self",
+    },
+    ("desk", "Desk"): {
+        "__init__": "self text",
+        "answer": "self line",
+    },
 }
 
 # The parameters that are passed by name only, with their defaults.
@@ -159,3 +196,26 @@ class TestInterface(unittest.TestCase):
                         else:
                             self.assertEqual(parameter.kind, parameter.POSITIONAL_OR_KEYWORD)
                             self.assertIs(parameter.default, parameter.empty)
+
+    def test_classes(self):
+        for (file_name, class_name), methods in CLASSES.items():
+            module = importlib.import_module("strikecore." + file_name)
+            made = getattr(module, class_name)
+            self.assertTrue(inspect.isclass(made))
+            self.assertEqual(made.__module__, "strikecore." + file_name)
+            self.assertIsInstance(vars(made)["order"], property)
+            for name, parameters in methods.items():
+                with self.subTest(class_name, name=name):
+                    method = vars(made)[name]
+                    self.assertTrue(inspect.isfunction(method))
+                    told = inspect.signature(method).parameters.values()
+                    self.assertEqual([parameter.name for parameter in told], parameters.split())
+                    for parameter in told:
+                        self.assertEqual(parameter.kind, parameter.POSITIONAL_OR_KEYWORD)
+                        self.assertIs(parameter.default, parameter.empty)
+
+    def test_each_heading_of_the_interface_has_a_file(self):
+        names = set(LANDED) | {file_name for file_name, _ in CLASSES} | {"errors"}
+        self.assertEqual(len(names), 23)
+        for name in names:
+            self.assertIsNotNone(importlib.import_module("strikecore." + name))
