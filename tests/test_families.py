@@ -16,7 +16,7 @@ from strikecore.orders import check_order, pieces
 from strikecore.shapes import check_shape, same_shape
 from strikecore.strikes import is_core
 from tests import reference
-from tests.reference import CROWN, EMPTY, POINT, SMALL_ORDERS, VEE, WEDGE
+from tests.reference import CROWN, EMPTY, HUGE, POINT, SMALL_ORDERS, VEE, WEDGE
 from tests.reference import antichain, chain, is_at_most, is_plain, random_orders, renamings, ring, shuffled
 from tests.test_weak import W
 
@@ -252,6 +252,12 @@ class TestSphere(unittest.TestCase):
                     homology(sphere(k))
 
 
+    def test_more_than_64_points(self):
+        for k in (32, 33, 64, HUGE):
+            with self.assertRaises(TooLarge):
+                sphere(k)
+
+
 class TestCrown(unittest.TestCase):
     def test_pair_by_pair(self):
         for k in range(2, 33):
@@ -275,6 +281,11 @@ class TestCrown(unittest.TestCase):
             else:
                 with self.assertRaises(TooLarge):
                     homology(crown(k))
+
+    def test_more_than_64_points(self):
+        for k in (33, 34, 65, HUGE):
+            with self.assertRaises(TooLarge):
+                crown(k)
 
     def test_crowns_with_unlike_numbers_are_not_of_one_shape(self):
         for k, m in itertools.product((2, 3, 4, 9, 32), repeat=2):

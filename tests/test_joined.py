@@ -57,12 +57,6 @@ def what_is_left(order, strikes):
     return induced(order, weak_left(order, strikes))
 
 
-def swapped(row, i, j):
-    row = list(row)
-    row[i], row[j] = row[j], row[i]
-    return tuple(row)
-
-
 class TestJoined(unittest.TestCase):
     def test_examples_of_each_case(self):
         self.assertEqual(joined(EMPTY, EMPTY), ("joined", (), (), ()))

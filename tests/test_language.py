@@ -159,6 +159,7 @@ class TestLanguage(unittest.TestCase):
         taken |= {node.name for node in tree.body if isinstance(node, ast.ClassDef)}
         local = {node.id for node in ast.walk(tree) if isinstance(node, ast.Name) and not is_read(node)}
         local |= {node.arg for node in ast.walk(tree) if isinstance(node, ast.arg)}
+        local |= {node.name for node in ast.walk(tree) if isinstance(node, ast.MatchAs) and node.name is not None}
         self.assertEqual(local & taken, set())
         own = local | set(bound)
         self.assertEqual({name for name in own if hasattr(builtins, name)}, set())

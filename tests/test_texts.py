@@ -273,9 +273,8 @@ class TestStrikes(Case):
             "0 0", "(0, 'up')", "0 up,", "0 up, ", "0 up,1 up", "0 up , 1 up", "0 up,  1 up", "0 up 1 up", "0 up\n1 up", ", 0 up",
         ):
             self.assert_bad_line(read_strikes, wrong, 1)
-            if wrong not in (" ",):
-                self.assert_bad_line(read_strikes, "5 above, " + wrong, 1)
-                self.assert_bad_line(read_strikes, wrong + ", 5 above", 1)
+            self.assert_bad_line(read_strikes, "5 above, " + wrong, 1)
+            self.assert_bad_line(read_strikes, wrong + ", 5 above", 1)
 
 
 class TestTogether(Case):
